@@ -1,0 +1,106 @@
+"""The definitions, and the errors of arguments that the functions of several stages have in common."""
+
+import unittest
+
+import wrong
+from helpers import OBJECTS, error_of, objects_but, same
+from turnpicks import checks
+from turnpicks.errors import InvalidCourse, InvalidKind, InvalidList, Mismatch
+
+HUGE = 10 ** 5000
+
+
+class TestDefinitions(unittest.TestCase):
+    def test_integers(self):
+        right = [value for value in OBJECTS if checks.is_integer(value)]
+        self.assertEqual(right, [0, -1, HUGE, -HUGE])
+        self.assertFalse(any(isinstance(value, bool) for value in right))
+
+    def test_kinds(self):
+        self.assertEqual([kind for kind in range(-2, 5) if checks.is_kind(kind, 3)], [0, 1, 2])
+        self.assertFalse(any(checks.is_kind(value, 3) for value in objects_but(0)))
+        self.assertFalse(any(checks.is_kind(value, 0) for value in OBJECTS))
+
+    def test_bundles(self):
+        for right in [(), (0,), (1, 2), (HUGE, 0, 5), (3,) * 61]:
+            self.assertTrue(checks.is_bundle(right, len(right)))
+            self.assertFalse(checks.is_bundle(right, len(right) + 1))
+            self.assertFalse(checks.is_bundle(list(right), len(right)))
+        self.assertFalse(any(checks.is_bundle(value, 1) for value in objects_but((1,))))
+        for value in objects_but(0, HUGE):
+            self.assertFalse(checks.is_bundle((1, value), 2))
+
+    def test_counts(self):
+        for right in [(), (0,), (HUGE, 0), (0,) * 60, (HUGE,) * 60]:
+            self.assertIsNone(checks.check_counts(right))
+        for value, error, told in wrong.wrong_counts():
+            found, kept = error_of(checks.check_counts, value)
+            self.assertIs(found, error)
+            self.assertIs(kept["counts"], told)
+
+    def test_lists(self):
+        for right in [(), (0,), (1, 0), (2, 0, 1), tuple(range(60))]:
+            self.assertIsNone(checks.check_lists((right, right[::-1]), len(right)))
+            self.assertIsNone(checks.check_ranking(right, len(right)))
+        for value, error, told in wrong.wrong_lists():
+            self.assertEqual(error_of(checks.check_lists, value, 2), (error, {"index": told}))
+
+    def test_single_list(self):
+        for value in OBJECTS + [[0, 1], (0,), (0, 0), (1, 2), (0, True), (0, 1, 2)]:
+            found, kept = error_of(checks.check_ranking, value, 2)
+            self.assertIs(found, InvalidList)
+            self.assertIs(kept["ranking"], value)
+
+    def test_sequences(self):
+        block = ("A" * 20, HUGE)
+        for right in [[], (), [block] * 200, (block,) * 200, [("B", 1)]]:
+            self.assertIsNone(checks.check_sequence(right))
+        for value, error, told in wrong.wrong_sequence():
+            self.assertEqual(error_of(checks.check_sequence, value), (error, {"index": told}))
+
+    def test_players(self):
+        self.assertIsNone(checks.check_player("A"))
+        self.assertIsNone(checks.check_player("B"))
+        for value, error, told in wrong.wrong_player():
+            found, kept = error_of(checks.check_player, value)
+            self.assertIs(found, error)
+            self.assertTrue(same(kept["player"], told))
+
+    def test_single_kind(self):
+        for kind in range(3):
+            self.assertIsNone(checks.check_kind(kind, 3))
+        for value in objects_but(0) + [3, 10 ** 30, "1", (1,)]:
+            found, kept = error_of(checks.check_kind, value, 3)
+            self.assertIs(found, InvalidKind)
+            self.assertIs(kept["kind"], value)
+
+    def test_courses(self):
+        row = ("AB" * 10, (1,) * 20, HUGE)
+        for right in [[], [row] * 1000, [("B", (0,), 1)]]:
+            self.assertIsNone(checks.check_course(right, 2))
+        for value, error, told in wrong.wrong_course():
+            self.assertEqual(error_of(checks.check_course, value, 2), (error, {"index": told}))
+        self.assertEqual(error_of(checks.check_course, [("A", (0,), 1)], 0), (InvalidCourse, {"index": 0}))
+
+    def test_numbers(self):
+        for least in (0, 1):
+            self.assertIsNone(checks.check_number(least, "picks", least))
+            self.assertIsNone(checks.check_number(HUGE, "picks", least))
+            for value, error, told in wrong.wrong_number("picks", least):
+                self.assertEqual(error_of(checks.check_number, value, "picks", least), (error, {"name": told}))
+
+    def test_items_for_all_picks(self):
+        self.assertIsNone(checks.check_enough_items((), []))
+        self.assertIsNone(checks.check_enough_items((HUGE, 1), [("A", HUGE), ("B", 1)]))
+        call = error_of(checks.check_enough_items, (HUGE, 1), [("A", HUGE), ("BA", 1)])
+        self.assertEqual(call, (Mismatch, {"name": "sequence"}))
+
+    def test_items_of_each_kind(self):
+        course = [("AB", (0, 1), 2), ("A", (0,), 1)]
+        self.assertIsNone(checks.check_items_left((3, 2), course))
+        self.assertEqual(error_of(checks.check_items_left, (2, 2), course), (InvalidCourse, {"index": 1}))
+        self.assertEqual(error_of(checks.check_items_left, (9, 1), course), (InvalidCourse, {"index": 0}))
+
+
+if __name__ == "__main__":
+    unittest.main()

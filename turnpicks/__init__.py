@@ -1,0 +1,1 @@
+"""Two players pick items by turns; the game is read from its end."""
