@@ -4,7 +4,7 @@ import itertools
 import unittest
 
 from helpers import chance_of, letters, slow_difference, some_sequence
-from turnpicks.blocks import first_parting, left_after, steps_in
+from turnpicks.blocks import first_parting, steps_in, times_by, turns_by
 
 
 class TestBlocks(unittest.TestCase):
@@ -12,14 +12,26 @@ class TestBlocks(unittest.TestCase):
         self.assertEqual(steps_in([]), 0)
         self.assertEqual(steps_in([("ABB", 10 ** 40), ([1, 2], 3)]), 3 * 10 ** 40 + 6)
 
-    def test_left_after(self):
-        self.assertEqual(left_after([5, 7, 0], ("ABA", (1, 0, 1), 2)), [3, 3, 0])
-        self.assertEqual(left_after((1, 7), ("AA", (0, 0), 3)), [-5, 7])
+    def test_many_places_at_once(self):
+        chance = chance_of("places")
+        for _ in range(300):
+            sequence = some_sequence(chance, 5, 5, 4)
+            whole = letters(sequence)
+            places = sorted(chance.randint(0, len(whole) + 2) for _ in range(chance.randint(0, 6)))
+            for player in "AB":
+                found = [whole[:place].count(player) for place in places]
+                self.assertEqual(turns_by(sequence, player, places), found)
 
-    def test_left_after_leaves_its_argument(self):
-        left = [5, 7]
-        left_after(left, ("A", (1,), 2))
-        self.assertEqual(left, [5, 7])
+    def test_many_numbers_at_once(self):
+        chance = chance_of("numbers")
+        for _ in range(300):
+            sequence = some_sequence(chance, 5, 5, 4)
+            whole = letters(sequence)
+            numbers = sorted(chance.randint(1, len(whole) + 2) for _ in range(chance.randint(0, 6)))
+            for player in "AB":
+                places = [place + 1 for place, letter in enumerate(whole) if letter == player]
+                found = [places[number - 1] if number <= len(places) else None for number in numbers]
+                self.assertEqual(times_by(sequence, player, numbers), found)
 
     def test_first_parting_of_lists(self):
         one = [([(0, 1), (0, 2)], 4)]

@@ -95,11 +95,12 @@ class TestDefinitions(unittest.TestCase):
         call = error_of(checks.check_enough_items, (HUGE, 1), [("A", HUGE), ("BA", 1)])
         self.assertEqual(call, (Mismatch, {"name": "sequence"}))
 
-    def test_items_of_each_kind(self):
-        course = [("AB", (0, 1), 2), ("A", (0,), 1)]
-        self.assertIsNone(checks.check_items_left((3, 2), course))
-        self.assertEqual(error_of(checks.check_items_left, (2, 2), course), (InvalidCourse, {"index": 1}))
-        self.assertEqual(error_of(checks.check_items_left, (9, 1), course), (InvalidCourse, {"index": 0}))
+    def test_exactly_all_items(self):
+        self.assertIsNone(checks.check_all_items((), []))
+        self.assertIsNone(checks.check_all_items((HUGE, 1), [("A", HUGE), ("B", 1)]))
+        for sequence in ([], [("A", HUGE)], [("A", HUGE), ("BA", 1)]):
+            call = error_of(checks.check_all_items, (HUGE, 1), sequence)
+            self.assertEqual(call, (Mismatch, {"name": "sequence"}))
 
 
 if __name__ == "__main__":

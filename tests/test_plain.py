@@ -5,8 +5,8 @@ import inspect
 import unittest
 
 import wrong
-from helpers import chance_of, error_of, same, single_picks, slow_difference, slow_outcome
-from helpers import slow_plain_picks, some_list, some_sequence
+from helpers import chance_of, check_course_form, error_of, many_games, same, single_picks, slow_difference
+from helpers import slow_outcome, slow_plain_picks, some_game, some_sequence
 from turnpicks import plain
 from turnpicks.blocks import first_parting
 from turnpicks.errors import InvalidCounts, InvalidCourse, InvalidLists, InvalidSequence, Mismatch
@@ -16,6 +16,17 @@ from turnpicks.turns import length, turns_among
 BIG = 10 ** 30
 HUGE = 10 ** 5000
 TOO_MANY = [("AB", 2)]
+
+UP = tuple(range(60))
+# Games and courses at the bounds: 60 kinds, 200 blocks, 1000 rows of 20 letters.
+LONG_SEQUENCE = [("AB" * 10, 10 ** 20)] * 200
+LAST_KIND = (0,) * 59 + (BIG,), (UP, UP), LONG_SEQUENCE
+BOTH_ENDS = (BIG,) * 60, (UP, UP[::-1]), LONG_SEQUENCE
+LONG_ROW = ("AB" * 10, (0, 1) * 10, 3)
+LONG_COURSE = [LONG_ROW] * 1000
+LONG_COUNTS = (30000, 30007)
+LONG_GAME = LONG_COUNTS, ((0, 1), (1, 0)), [("AB", 30000)]
+PLACES = (0, 1, 500, 998, 999)
 
 RIGHT = {"counts": (2, 1), "lists": ((0, 1), (1, 0)), "sequence": [("A", 1)], "course": [("A", (0,), 1)]}
 WRONG = {
@@ -30,38 +41,13 @@ CALLS = [
 ]
 
 
-def some_game(chance, most_kinds=5, most_items=9):
-    """Small counts, lists and a sequence that is not longer than the items last."""
-    kinds = chance.randint(0, most_kinds)
-    counts = tuple(chance.randint(0, most_items) for _ in range(kinds))
-    lists = some_list(chance, kinds), some_list(chance, kinds)
-    ahead = sum(counts)
-    sequence = []
-    while ahead and chance.random() < 0.9:
-        size = chance.randint(1, min(6, ahead))
-        times = chance.randint(1, ahead // size)
-        sequence.append(("".join(chance.choice("AB") for _ in range(size)), times))
-        ahead -= size * times
-    return counts, lists, sequence
-
-
 def small_games():
     chance = chance_of("plain")
     return [((), ((), ()), [])] + [some_game(chance) for _ in range(400)]
 
 
-def large_game(chance, digits):
-    """A game with 60 kinds and 200 blocks that uses nearly all items."""
-    counts = tuple(chance.randrange(10 ** chance.randint(1, digits)) for _ in range(60))
-    lists = some_list(chance, 60), some_list(chance, 60)
-    strings = ["".join(chance.choice("AB") for _ in range(chance.randint(1, 20))) for _ in range(200)]
-    share = sum(counts) // 200
-    return counts, lists, [(string, share // len(string)) for string in strings]
-
-
 def large_games():
-    chance = chance_of("large")
-    return [large_game(chance, digits) for digits in (6, 6, 30, 30, 2000)]
+    return many_games("large", (6, 6, 30, 30, 2000))
 
 
 def divided_course(chance, picks):
@@ -139,18 +125,23 @@ class TestPlainGame(unittest.TestCase):
                 self.assertEqual(plain_game(counts, lists, other), plain_game(counts, lists, sequence[:199]))
 
 
-class TestPlainCourse(unittest.TestCase):
-    def check_course(self, counts, course):
-        self.assertIs(type(course), list)
-        self.assertLessEqual(len(course), 1000)
-        for row in course:
-            self.assertIs(type(row), tuple)
-            turns, kinds, times = row
-            self.assertTrue(1 <= len(turns) <= 20 and set(turns) <= {"A", "B"})
-            self.assertTrue(type(kinds) is tuple and len(kinds) == len(turns))
-            self.assertTrue(all(type(kind) is int and 0 <= kind < len(counts) for kind in kinds))
-            self.assertTrue(type(times) is int and times >= 1)
+    def test_60_kinds_and_200_blocks(self):
+        many = 2 * 10 ** 23
+        none = (0,) * 59
+        self.assertEqual(plain_game(*LAST_KIND), (none + (many,), none + (many,), none + (BIG - 2 * many,)))
+        left = (BIG - many,) + (BIG,) * 58 + (BIG - many,)
+        self.assertEqual(plain_game(*BOTH_ENDS), ((many,) + none, none + (many,), left))
 
+    def test_60_kinds_used_up_in_200_blocks(self):
+        counts = (10 ** 20 * 4000 // 60 + 1,) * 60
+        for lists in ((UP, UP), (UP, UP[::-1]), (UP[::-1], UP[30:] + UP[:30])):
+            one, other, left = plain_game(counts, lists, LONG_SEQUENCE)
+            self.assertEqual((one, other, left), play_course(counts, plain_course(counts, lists, LONG_SEQUENCE)))
+            many = 2 * 10 ** 23
+            self.assertEqual((sum(one), sum(other), sum(left)), (many, many, sum(counts) - 2 * many))
+
+
+class TestPlainCourse(unittest.TestCase):
     def check_plain_picks(self, counts, lists, course):
         # Kinds run out and never come back: so if the first and the last round of a row are plain,
         # those between them are plain too.
@@ -167,16 +158,24 @@ class TestPlainCourse(unittest.TestCase):
     def test_single_picks(self):
         for counts, lists, sequence in small_games():
             course = plain_course(counts, lists, sequence)
-            self.check_course(counts, course)
+            check_course_form(self, counts, course)
             self.assertEqual(single_picks(course), slow_plain_picks(counts, lists, sequence))
 
     def test_large_games(self):
         for counts, lists, sequence in large_games():
             course = plain_course(counts, lists, sequence)
-            self.check_course(counts, course)
+            check_course_form(self, counts, course)
             self.check_plain_picks(counts, lists, course)
             # The course has more rows than a sequence may have blocks, so first_difference cannot compare them.
             self.assertIsNone(first_parting([(turns, times) for turns, _, times in course], sequence))
+
+    def test_60_kinds_and_200_blocks(self):
+        for counts, lists, sequence in (LAST_KIND, BOTH_ENDS):
+            course = plain_course(counts, lists, sequence)
+            check_course_form(self, counts, course)
+            self.check_plain_picks(counts, lists, course)
+            self.assertEqual(play_course(counts, course), plain_game(counts, lists, sequence))
+            self.assertIsNone(check_plain(counts, lists, sequence, course))
 
     def test_many_changes_in_long_blocks(self):
         # Each kind runs out within a round, and the lists lead the players through the kinds from both ends.
@@ -188,7 +187,7 @@ class TestPlainCourse(unittest.TestCase):
                     sequence = [(turns, sum(counts) // len(turns))]
                     if sequence[0][1]:
                         course = plain_course(counts, lists, sequence)
-                        self.check_course(counts, course)
+                        check_course_form(self, counts, course)
                         self.check_plain_picks(counts, lists, course)
                         self.assertIsNone(check_plain(counts, lists, sequence, course))
 
@@ -198,7 +197,7 @@ class TestPlainCourse(unittest.TestCase):
         course = plain_course((2, 2), ((0, 1), (0, 1)), [("ABAB", 1)])
         self.assertEqual(single_picks(course), [("A", 0), ("B", 0), ("A", 1), ("B", 1)])
         course = plain_course((HUGE,), ((0,), (0,)), [("A" * 20, HUGE // 20)])
-        self.check_course((HUGE,), course)
+        check_course_form(self, (HUGE,), course)
         self.assertEqual(play_course((HUGE,), course), ((HUGE,), (0,), (0,)))
 
 
@@ -247,6 +246,36 @@ class TestPlayCourse(unittest.TestCase):
         course = [("A", (0,), 9), ("A", (2,), 1)]
         self.assertEqual(error_of(play_course, (3, 1), course), (InvalidCourse, {"index": 1}))
         self.assertEqual(error_of(play_course, (3, 1), course[:1]), (InvalidCourse, {"index": 0}))
+
+    def test_1000_rows_of_20_letters(self):
+        self.assertEqual(play_course(LONG_COUNTS, LONG_COURSE), ((30000, 0), (0, 30000), (0, 7)))
+
+    def test_wrong_rows_among_1000(self):
+        for at in PLACES:
+            for row in (None, ("AB" * 10, (0, 1) * 9 + (0, True), 3), ("AB" * 10, (0, 1) * 10, 0),
+                        ("AB" * 10, (0, 2) * 10, 3), ("AC" * 10, (0, 1) * 10, 3), ("AB" * 10, [0, 1] * 10, 3)):
+                course = LONG_COURSE[:at] + [row] + LONG_COURSE[at + 1:]
+                self.assertEqual(error_of(play_course, LONG_COUNTS, course), (InvalidCourse, {"index": at}))
+            # Row `at` takes the first item too many, of the one kind or of the other.
+            self.assertEqual(error_of(play_course, (30 * at, 30007), LONG_COURSE), (InvalidCourse, {"index": at}))
+            self.assertEqual(error_of(play_course, (30000, 30 * at + 29), LONG_COURSE), (InvalidCourse, {"index": at}))
+            taken = LONG_COURSE[:at] + [("AB" * 10, (1, 1) * 10, 3)] + LONG_COURSE[at + 1:]
+            index = max(at, 999)
+            self.assertEqual(error_of(play_course, (30000, 30029), taken), (InvalidCourse, {"index": index}))
+
+    def test_1000_different_rows(self):
+        chance = chance_of("different rows")
+        course = []
+        for _ in range(1000):
+            turns = "".join(chance.choice("AB") for _ in range(20))
+            course.append((turns, tuple(chance.randrange(60) for _ in turns), chance.randint(1, 3)))
+        one, other, left = slow_outcome((3000,) * 60, single_picks(course))
+        self.assertEqual(play_course((3000,) * 60, course), (one, other, left))
+        for kind in (0, 30, 59):
+            taken = one[kind] + other[kind]
+            counts = (3000,) * kind + (taken - 1,) + (3000,) * (59 - kind)
+            last = max(index for index, row in enumerate(course) if kind in row[1])
+            self.assertEqual(error_of(play_course, counts, course), (InvalidCourse, {"index": last}))
 
     def test_within_one_row(self):
         self.assertEqual(error_of(play_course, (1, 9), [("AB", (0, 0), 1)]), (InvalidCourse, {"index": 0}))
@@ -355,6 +384,36 @@ class TestCheckPlain(unittest.TestCase):
                 last_round = [(turns, kinds, times - 1), (turns, kinds[:-1] + ((kinds[-1] + 1) % 60,), 1)]
                 if times > 1:
                     self.refused(counts, lists, sequence, cut[:at] + last_round + cut[at + 1:], at + 1)
+
+    def test_1000_rows_of_20_letters(self):
+        self.assertIsNone(check_plain(*LONG_GAME, LONG_COURSE))
+        self.refused(*LONG_GAME, LONG_COURSE[:-1], 999)
+        self.refused(LONG_COUNTS, LONG_GAME[1], [("AB", 29999)], LONG_COURSE, 999)
+        self.refused(LONG_COUNTS, LONG_GAME[1], [("AB", 15000)], LONG_COURSE, 500)
+
+    def test_wrong_rows_among_1000(self):
+        turns, kinds, times = LONG_ROW
+        for at in PLACES:
+            for row in (None, (turns, kinds[:-1] + (2,), times), (turns, kinds[:-1] + (True,), times),
+                        (turns, kinds, 0)):
+                self.refused(*LONG_GAME, LONG_COURSE[:at] + [row] + LONG_COURSE[at + 1:], at)
+                self.refused(*LONG_GAME, LONG_COURSE[:at] + [row] + [None] * (999 - at), at)
+            for row in ((turns, (1,) + kinds[1:], times), (turns, kinds[:-1] + (0,), times),
+                        ("B" + turns[1:], kinds, times), (turns[:-1] + "A", kinds, times),
+                        (turns, kinds, times - 1), (turns, kinds, times + 1)):
+                index = at if row[1] != kinds or row[0] != turns else 999 if row[2] == times + 1 else 1000
+                self.refused(*LONG_GAME, LONG_COURSE[:at] + [row] + LONG_COURSE[at + 1:], index)
+
+    def test_a_wrong_kind_ahead_of_a_wrong_player(self):
+        course = [("AB", (0, 1), 1)] * 9
+        game = (9, 9), ((0, 1), (1, 0)), [("AB", 9)]
+        kind, player, both = ("AB", (0, 0), 1), ("BB", (0, 1), 1), ("BA", (1, 1), 1)
+        self.refused(*game, course[:3] + [kind, player] + course[5:], 3)
+        self.refused(*game, course[:3] + [player, kind] + course[5:], 3)
+        self.refused(*game, course[:4] + [both] + course[5:], 4)
+        self.refused(*game, course[:4] + [("ABAA", (1, 1, 0, 1), 1)] + course[6:], 4)
+        self.refused(*game, course[:8] + [kind], 8)
+        self.refused(*game, course + [kind], 9)
 
     def test_1000_rows(self):
         lists = ((0, 1), (1, 0))

@@ -14,6 +14,10 @@ BIG = 10 ** 30
 HUGE = 10 ** 5000
 MANY = [("ABBABAABBAABABBABAAB", BIG + at) for at in range(200)]
 
+# The bounds of a sequence, in both forms.
+LONG = [("AB" * 10, 10 ** 9 + at) for at in range(200)]
+LONG_FORMS = LONG, tuple(LONG)
+
 # Each function with right arguments, and for each argument the wrong values.
 CALLS = [
     (length, {"sequence": [("A", 1)]}, {"sequence": wrong.wrong_sequence()}),
@@ -112,6 +116,44 @@ class TestPickTime(unittest.TestCase):
                 time = pick_time(MANY, player, number)
                 self.assertEqual(turns_among(MANY, player, time), number)
                 self.assertEqual(turns_among(MANY, player, time - 1), number - 1)
+
+
+class Test200Blocks(unittest.TestCase):
+    def test_answers(self):
+        for sequence in LONG_FORMS:
+            self.assertEqual(length(sequence), 4000000398000)
+            self.assertEqual(turns_among(sequence, "A", 10 ** 12), 500000000000)
+            self.assertEqual(pick_time(sequence, "B", 1900000000000), 3800000000000)
+
+    def test_at_the_ends_of_blocks(self):
+        for sequence in LONG_FORMS:
+            end = 0
+            for at in range(200):
+                end += 20 * (10 ** 9 + at)
+                self.assertEqual(turns_among(sequence, "A", end), end // 2)
+                self.assertEqual(turns_among(sequence, "A", end - 1), end // 2)
+                self.assertEqual(turns_among(sequence, "B", end - 1), end // 2 - 1)
+                self.assertEqual(pick_time(sequence, "B", end // 2), end)
+                self.assertEqual(pick_time(sequence, "A", end // 2), end - 1)
+                after = end + 1 if at < 199 else None
+                self.assertEqual(pick_time(sequence, "A", end // 2 + 1), after)
+            self.assertEqual(turns_among(sequence, "B", end + 5), end // 2)
+
+    def test_a_wrong_block_at_any_place(self):
+        blocks = [None, ["AB", 1], ("AB" * 10 + "A", 1), ("AB" * 9 + "AC", 1), ("", 1), ("AB", 0), ("AB", True),
+                  ("AB", "1"), (b"AB", 1), ("AB", 1, 1), ("ab", 1), ("A" * 9 + "C" + "A" * 9, 1)]
+        for at in (0, 1, 100, 198, 199):
+            for block in blocks:
+                wrong_one = LONG[:at] + [block] + LONG[at + 1:]
+                for sequence in (wrong_one, tuple(wrong_one), wrong_one[:at + 1] + [None] * (199 - at)):
+                    for function, more in ((length, []), (turns_among, ["C", -1]), (pick_time, ["C", 0])):
+                        call = error_of(function, sequence, *more)
+                        self.assertEqual(call, (InvalidSequence, {"index": at}))
+
+    def test_201_blocks(self):
+        for sequence in (LONG + LONG[:1], tuple(LONG) + (None,)):
+            for function, more in ((length, []), (turns_among, ["A", 1]), (pick_time, ["A", 1])):
+                self.assertEqual(error_of(function, sequence, *more), (InvalidSequence, {"index": -1}))
 
 
 class TestOtherOrders(unittest.TestCase):

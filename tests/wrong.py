@@ -1,7 +1,9 @@
 """Wrong arguments, each with the error that it raises: (value, error class, value of the error)."""
 
 from helpers import OBJECTS, objects_but
-from turnpicks.errors import InvalidCounts, InvalidCourse, InvalidLists, InvalidNumber, InvalidPlayer, InvalidSequence
+from turnpicks.errors import InvalidBundle, InvalidCounts, InvalidCourse, InvalidKind, InvalidList, InvalidLists
+from turnpicks.errors import InvalidNumber, InvalidOrder, InvalidPlayer, InvalidSequence, InvalidValues
+from turnpicks.errors import Misfit, Mismatch
 
 GOOD = ("A", 1)
 
@@ -15,19 +17,28 @@ def wrong_counts():
     return [(value, InvalidCounts, value) for value in values]
 
 
+def no_lists():
+    """Values that are no list of two kinds."""
+    return OBJECTS + [
+        [0, 1], (0,), (0, 1, 2), (0, 0), (1, 1), (1, 2), (0, -1), (True, 0), (0, True), (False, True), ("0", "1"),
+        (0, None), (0, []), ((0,), (1,)), (0, 10 ** 5000), {0, 1}, {0: 1, 1: 0}, range(2), "01",
+    ]
+
+
 def wrong_lists():
     """Values that are no lists of two kinds."""
     right = (0, 1)
     whole = OBJECTS + [[right, right], (right,), (right, right, right), {0: right, 1: right}]
-    lists = OBJECTS + [
-        [0, 1], (0,), (0, 1, 2), (0, 0), (1, 1), (1, 2), (0, -1), (True, 0), (0, True), (False, True), ("0", "1"),
-        (0, None), (0, []), ((0,), (1,)), (0, 10 ** 5000), {0, 1}, {0: 1, 1: 0}, range(2), "01",
-    ]
     wrong = [(value, InvalidLists, -1) for value in whole]
-    wrong += [((value, right), InvalidLists, 0) for value in lists]
-    wrong += [((right, value), InvalidLists, 1) for value in lists]
-    wrong += [((value, value), InvalidLists, 0) for value in lists]
+    wrong += [((value, right), InvalidLists, 0) for value in no_lists()]
+    wrong += [((right, value), InvalidLists, 1) for value in no_lists()]
+    wrong += [((value, value), InvalidLists, 0) for value in no_lists()]
     return wrong
+
+
+def wrong_ranking():
+    """Values that are no list of two kinds, where one list is asked for."""
+    return [(value, InvalidList, value) for value in no_lists()]
 
 
 def wrong_turns():
@@ -86,3 +97,80 @@ def wrong_number(name, least):
     values = [value for value in OBJECTS if type(value) is not int or value < least]
     values += [least - 1, least - 10 ** 30, "1", (1,), [least]]
     return [(value, InvalidNumber, name) for value in values]
+
+
+def wrong_kind():
+    """Values that are none of two kinds."""
+    values = objects_but(0) + [2, 60, -2, 10 ** 30, "0", (0,), [0], {0}]
+    return [(value, InvalidKind, value) for value in values]
+
+
+def too_long(picks):
+    """A sequence of more than so many picks, where there are so many items."""
+    sequences = [[("A", picks + 1)], (("B", picks), ("A", 1)), [("AB", 10 ** 5000)]]
+    return [(sequence, Mismatch, "sequence") for sequence in sequences]
+
+
+def wrong_bundle():
+    """Values that are no bundle of one item, where there are two items of kind 0 and one of kind 1."""
+    shapes = OBJECTS + [[1, 0], (1,), (1, 0, 0), ((1, 0),), "10", {0: 1, 1: 0}, range(2)]
+    shapes += [(0, value) for value in objects_but(0, 10 ** 5000)] + [(-1, 2), (2, -1), (3, -1), (True, 0), (0, True)]
+    wrong = [(value, InvalidBundle, -1) for value in shapes]
+    wrong += [(value, InvalidBundle, 0) for value in [(3, 0), (3, 2), (10 ** 5000, 0), (3, 10 ** 5000)]]
+    wrong += [(value, InvalidBundle, 1) for value in [(0, 2), (2, 2), (0, 10 ** 5000)]]
+    wrong += [(value, InvalidBundle, 2) for value in [(0, 0), (1, 1), (2, 0), (2, 1)]]
+    return wrong
+
+
+def wrong_order():
+    """Values that are no order of one pick, where there are two kinds."""
+    good = (0, 1)
+    runs = OBJECTS + [[0, 1], (0,), (0, 1, 1), "01", {0: 1}, ((0, 1),), (2, 1), (-1, 1), (True, 1), (False, 1)]
+    runs += [("0", 1), (None, 1), ([], 1), (0, 0), (0, -1), (0, True), (0, None), (0, "1"), (0, []), (10 ** 5000, 1)]
+    wrong = [(value, InvalidOrder, -1) for value in objects_but([], [1]) + [(good,), {good}, {0: 1}, range(2)]]
+    for run in runs:
+        wrong += [([run], InvalidOrder, 0), ([good, run, good, run], InvalidOrder, 1), ([run, None], InvalidOrder, 0)]
+    wrong += [([], InvalidOrder, 0), ([good, good], InvalidOrder, 2), ([(1, 2)], InvalidOrder, 1)]
+    wrong += [([(0, 10 ** 5000)], InvalidOrder, 1), ([good] * 300, InvalidOrder, 300)]
+    wrong += [([(1, 9), (0, 3)], InvalidOrder, 2)]
+    return wrong
+
+
+def wrong_integers(error):
+    """Values that are no list or tuple of two integers."""
+    whole = OBJECTS + [[1], (1,), [1, 2, 3], (1, 2, 3), "12", {0: 1, 1: 2}, {1, 2}, range(2), iter([1, 2]), [None] * 3]
+    wrong = [(value, error, -1) for value in whole]
+    for value in [entry for entry in OBJECTS if type(entry) is not int] + ["1", [1], (1,)]:
+        wrong += [([value, 1], error, 0), ((value, value), error, 0), ([-1, value], error, 1), ((0, value), error, 1)]
+    return wrong
+
+
+def wrong_values():
+    """Values that are no values of two kinds."""
+    return wrong_integers(InvalidValues)
+
+
+def wrong_wanted():
+    """Values that are no integers for two prefixes."""
+    return wrong_integers(InvalidBundle)
+
+
+def wrong_answer():
+    """Answers that are wrong if of (2, 1) A can have (1, 0) and (0, 1), worth 5 and 7, and both caps are 1."""
+    right = (7, (0, 1), [0, 7])
+    shapes = OBJECTS + [list(right), right[:2], right + (1,), (7, [0, 1], [0, 7]), (7, (0, 1), (0, 7))]
+    shapes += [((0, 1), 7, [0, 7])]
+    shapes += [(value, (0, 1), [0, 7]) for value in OBJECTS if type(value) is not int]
+    shapes += [(7, value, [0, 7]) for value in OBJECTS if type(value) is not tuple]
+    shapes += [(7, (0, 1), value) for value in OBJECTS if type(value) is not list]
+    bundles = [value for value in OBJECTS if type(value) is tuple]
+    bundles += [(0, 1, 0), (0,), (0, True), (-1, 2), (2, -1), (0, None), (1, 1), (0, 0), (0, 2), (2, 0), (3, 0)]
+    prices = [[], [7], [0, 7, 0], [0, None], [None, 7], [False, 7], [0, True], ["0", 7], [-1, 8], [-1, -7], [0, [7]]]
+    bounds = [[0, 8], [0, 4], [1, 7], [0, -1], [7, 7], [0, 10 ** 5000], [0, -(10 ** 5000)], [10 ** 5000, 0]]
+    wrong = [(value, Misfit, -1) for value in shapes]
+    wrong += [((7, bundle, [0, 7]), Misfit, 0) for bundle in bundles] + [((8, (1, 1), []), Misfit, 0)]
+    wrong += [((worth, (0, 1), [0, 7]), Misfit, 1) for worth in (0, 5, 6, 8, -7, 10 ** 5000)]
+    wrong += [((7, (1, 0), [0, 7]), Misfit, 1), ((6, (0, 1), [None]), Misfit, 1)]
+    wrong += [((7, (0, 1), value), Misfit, 2) for value in prices] + [((5, (1, 0), [-1, 0]), Misfit, 2)]
+    wrong += [((7, (0, 1), value), Misfit, 3) for value in bounds] + [((5, (1, 0), [0, 7]), Misfit, 3)]
+    return wrong

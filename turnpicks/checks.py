@@ -1,8 +1,8 @@
 """What counts as a valid argument, and the error that an invalid one raises."""
 
-from turnpicks.blocks import left_after, steps_in
-from turnpicks.errors import InvalidCounts, InvalidCourse, InvalidKind, InvalidList, InvalidLists
-from turnpicks.errors import InvalidNumber, InvalidPlayer, InvalidSequence, Mismatch
+from turnpicks.blocks import steps_in
+from turnpicks.errors import InvalidBundle, InvalidCounts, InvalidCourse, InvalidKind, InvalidList, InvalidLists
+from turnpicks.errors import InvalidNumber, InvalidPlayer, InvalidSequence, InvalidValues, Mismatch
 
 PLAYERS = ("A", "B")
 MOST_KINDS = 60
@@ -21,6 +21,15 @@ def is_kind(value, kinds):
     return is_integer(value) and 0 <= value < kinds
 
 
+def are_kinds(values, kinds):
+    """Returns whether each of the values is one of so many kinds."""
+    # This goes over each pick of each row of a course, so it calls nothing of its own.
+    for value in values:
+        if not isinstance(value, int) or not 0 <= value < kinds or value is True or value is False:
+            return False
+    return True
+
+
 def is_bundle(value, kinds):
     """Returns whether the value is a bundle of so many kinds."""
     if not isinstance(value, tuple) or len(value) != kinds:
@@ -35,7 +44,7 @@ def is_counts(value):
 
 def is_list(value, kinds):
     """Returns whether the value is a list of so many kinds."""
-    if not isinstance(value, tuple) or not all(is_kind(kind, kinds) for kind in value):
+    if not isinstance(value, tuple) or not are_kinds(value, kinds):
         return False
     return sorted(value) == list(range(kinds))
 
@@ -45,24 +54,16 @@ def is_player(value):
     return isinstance(value, str) and value in PLAYERS
 
 
-def is_turns(value):
-    """Returns whether the value is the string of a block."""
-    if not isinstance(value, str) or not 1 <= len(value) <= MOST_LETTERS:
+def is_repeated(turns, times):
+    """Returns whether these are the string of a block and how often it is repeated."""
+    if not isinstance(turns, str) or not 1 <= len(turns) <= MOST_LETTERS or turns.strip("AB") != "":
         return False
-    return all(letter in PLAYERS for letter in value)
-
-
-def is_times(value):
-    """Returns whether the value tells how often a block is repeated."""
-    return is_integer(value) and value >= 1
+    return isinstance(times, int) and times >= 1 and times is not True
 
 
 def is_block(value):
     """Returns whether the value is a block."""
-    if not isinstance(value, tuple) or len(value) != 2:
-        return False
-    turns, times = value
-    return is_turns(turns) and is_times(times)
+    return isinstance(value, tuple) and len(value) == 2 and is_repeated(value[0], value[1])
 
 
 def is_row(value, kinds):
@@ -70,9 +71,9 @@ def is_row(value, kinds):
     if not isinstance(value, tuple) or len(value) != 3:
         return False
     turns, picked, times = value
-    if not is_turns(turns) or not isinstance(picked, tuple) or len(picked) != len(turns):
+    if not is_repeated(turns, times) or not isinstance(picked, tuple) or len(picked) != len(turns):
         return False
-    return all(is_kind(kind, kinds) for kind in picked) and is_times(times)
+    return are_kinds(picked, kinds)
 
 
 def check_counts(counts):
@@ -138,13 +139,10 @@ def check_enough_items(counts, sequence):
         raise Mismatch("sequence")
 
 
-def check_items_left(counts, course):
-    """Raises InvalidCourse for the first row of a course that takes more items of a kind than are left."""
-    left = list(counts)
-    for index, row in enumerate(course):
-        left = left_after(left, row)
-        if min(left) < 0:
-            raise InvalidCourse(index)
+def check_all_items(counts, sequence):
+    """Raises Mismatch if a sequence does not have as many picks as there are items."""
+    if steps_in(sequence) != sum(counts):
+        raise Mismatch("sequence")
 
 
 def check_game(counts, lists, sequence):
@@ -153,3 +151,54 @@ def check_game(counts, lists, sequence):
     check_lists(lists, len(counts))
     check_sequence(sequence)
     check_enough_items(counts, sequence)
+
+
+def check_side(counts, ranking, sequence, player):
+    """Raises what a function with just these arguments raises ahead of Mismatch."""
+    check_counts(counts)
+    check_ranking(ranking, len(counts))
+    check_sequence(sequence)
+    check_player(player)
+
+
+def bundle_fault(bundle, counts, many):
+    """Returns the index of InvalidBundle for what should be a bundle of so many of these items, or None."""
+    if not is_bundle(bundle, len(counts)):
+        return -1
+    for kind, there in enumerate(counts):
+        if bundle[kind] > there:
+            return kind
+    if sum(bundle) != many:
+        return len(counts)
+    return None
+
+
+def check_bundle(bundle, counts, many):
+    """Raises InvalidBundle if this is not a bundle of so many of these items."""
+    fault = bundle_fault(bundle, counts, many)
+    if fault is not None:
+        raise InvalidBundle(fault)
+
+
+def integers_fault(values, many):
+    """Returns the index of the first entry that is no integer, -1 if there are not so many entries, or None."""
+    if not isinstance(values, (list, tuple)) or len(values) != many:
+        return -1
+    for index, value in enumerate(values):
+        if not is_integer(value):
+            return index
+    return None
+
+
+def check_wanted(wanted, kinds):
+    """Raises InvalidBundle if this is not an integer for each prefix of a list of so many kinds."""
+    fault = integers_fault(wanted, kinds)
+    if fault is not None:
+        raise InvalidBundle(fault)
+
+
+def check_values(values, kinds):
+    """Raises InvalidValues if this is not an integer for each of so many kinds."""
+    fault = integers_fault(values, kinds)
+    if fault is not None:
+        raise InvalidValues(fault)

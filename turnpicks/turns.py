@@ -1,6 +1,6 @@
 """Sequences of turns: who picks how often, and when."""
 
-from turnpicks.blocks import first_parting, steps_in
+from turnpicks.blocks import backwards, first_parting, steps_in, times_by, turns_by
 from turnpicks.checks import MOST_BLOCKS, check_number, check_player, check_sequence
 from turnpicks.errors import InvalidNumber, TooLarge
 
@@ -18,14 +18,7 @@ def turns_among(sequence, player, picks):
     check_sequence(sequence)
     check_player(player)
     check_number(picks, "picks", 0)
-    found = 0
-    ahead = picks
-    for turns, times in sequence:
-        taken = min(ahead, len(turns) * times)
-        whole, part = divmod(taken, len(turns))
-        found += whole * turns.count(player) + turns[:part].count(player)
-        ahead -= taken
-    return found
+    return turns_by(sequence, player, [picks])[0]
 
 
 def pick_time(sequence, player, number):
@@ -33,27 +26,13 @@ def pick_time(sequence, player, number):
     check_sequence(sequence)
     check_player(player)
     check_number(number, "number", 1)
-    passed = 0
-    ahead = number
-    for turns, times in sequence:
-        own = turns.count(player)
-        if ahead <= own * times:
-            whole, part = divmod(ahead - 1, own)
-            return passed + whole * len(turns) + places_of(turns, player)[part]
-        ahead -= own * times
-        passed += len(turns) * times
-    return None
-
-
-def places_of(turns, player):
-    """Returns the numbers of the player's turns in the string of a block."""
-    return [place for place, letter in enumerate(turns, start=1) if letter == player]
+    return times_by(sequence, player, [number])[0]
 
 
 def reversed_sequence(sequence):
     """Returns the sequence from its end to its start."""
     check_sequence(sequence)
-    return [(turns[::-1], times) for turns, times in reversed(sequence)]
+    return backwards(sequence)
 
 
 def exchanged_sequence(sequence):
