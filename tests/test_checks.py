@@ -5,7 +5,8 @@ import unittest
 import wrong
 from helpers import OBJECTS, error_of, objects_but, same
 from turnpicks import checks
-from turnpicks.errors import InvalidCourse, InvalidKind, InvalidList, Mismatch
+from turnpicks.errors import InvalidBundle, InvalidCourse, InvalidKind, InvalidList, InvalidOpponent, InvalidPicks
+from turnpicks.errors import Mismatch
 
 HUGE = 10 ** 5000
 
@@ -101,6 +102,54 @@ class TestDefinitions(unittest.TestCase):
         for sequence in ([], [("A", HUGE)], [("A", HUGE), ("BA", 1)]):
             call = error_of(checks.check_all_items, (HUGE, 1), sequence)
             self.assertEqual(call, (Mismatch, {"name": "sequence"}))
+
+    def test_lists_of_any_number_of_kinds(self):
+        for kinds in (0, 1, 2, 59, 60):
+            right = tuple(range(kinds))
+            self.assertEqual(checks.kinds_in(right), kinds)
+            self.assertIsNone(checks.check_own_lists((right, right[::-1])))
+        for value, error, told in wrong.wrong_own_lists():
+            self.assertEqual(error_of(checks.check_own_lists, value), (error, {"index": told}))
+
+    def test_sharings(self):
+        for right in [((0, 0), (0, 0)), ((HUGE, 0), (1, 2))]:
+            self.assertIsNone(checks.check_sharing(right, 2))
+        self.assertIsNone(checks.check_sharing(((), ()), 0))
+        for value, error, told in wrong.wrong_sharing():
+            self.assertEqual(error_of(checks.check_sharing, value, 2), (error, {"index": told}))
+
+    def test_parts(self):
+        for right in [(0, 0), (2, 1), (1, 0)]:
+            self.assertIsNone(checks.check_part(right, (2, 1)))
+        for value, error, told in wrong.wrong_part():
+            self.assertEqual(error_of(checks.check_part, value, (2, 1)), (error, {"index": told}))
+        self.assertEqual(error_of(checks.check_part, (0,), ()), (InvalidBundle, {"index": -1}))
+
+    def test_opponents(self):
+        for right in ("plain", "hostile", "thinking"):
+            self.assertIsNone(checks.check_opponent(right))
+        for value, error, told in wrong.wrong_opponent():
+            found, kept = error_of(checks.check_opponent, value)
+            self.assertIs(found, InvalidOpponent)
+            self.assertTrue(same(kept["opponent"], told))
+
+    def test_picks(self):
+        for right in [[], (), [0, 1], (1, 0, 0, 1), [1] * 4]:
+            self.assertIsNone(checks.check_picks(right, (200, 100), 4))
+        for value, error, told in wrong.wrong_picks():
+            self.assertEqual(error_of(checks.check_picks, value, (200, 100), 4), (error, {"index": told}))
+        self.assertIsNone(checks.check_picks([0] * 200, (HUGE,), HUGE))
+        self.assertEqual(error_of(checks.check_picks, [0] * 201, (HUGE,), HUGE), (InvalidPicks, {"index": -1}))
+        self.assertEqual(error_of(checks.check_picks, [0] * 5, (HUGE,), 4), (InvalidPicks, {"index": -1}))
+
+    def test_values_of_both_players(self):
+        lists = (0, 1), (1, 0)
+        for right in [((5, 3), (1, 2)), ((1, 0), (0, 1)), ((HUGE, 0), (0, HUGE))]:
+            self.assertIsNone(checks.check_both_values(right, lists))
+        self.assertIsNone(checks.check_both_values(((), ()), ((), ())))
+        self.assertIsNone(checks.check_both_values(((0,), (3,)), ((0,), (0,))))
+        for value, error, told in wrong.wrong_both_values():
+            self.assertEqual(error_of(checks.check_both_values, value, lists), (error, {"index": told}))
 
 
 if __name__ == "__main__":

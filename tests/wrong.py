@@ -2,8 +2,8 @@
 
 from helpers import OBJECTS, objects_but
 from turnpicks.errors import InvalidBundle, InvalidCounts, InvalidCourse, InvalidKind, InvalidList, InvalidLists
-from turnpicks.errors import InvalidNumber, InvalidOrder, InvalidPlayer, InvalidSequence, InvalidValues
-from turnpicks.errors import Misfit, Mismatch
+from turnpicks.errors import InvalidNumber, InvalidOpponent, InvalidOrder, InvalidPicks, InvalidPlayer
+from turnpicks.errors import InvalidSequence, InvalidSharing, InvalidValues, Misfit, Mismatch
 
 GOOD = ("A", 1)
 
@@ -174,3 +174,91 @@ def wrong_answer():
     wrong += [((7, (0, 1), value), Misfit, 2) for value in prices] + [((5, (1, 0), [-1, 0]), Misfit, 2)]
     wrong += [((7, (0, 1), value), Misfit, 3) for value in bounds] + [((5, (1, 0), [0, 7]), Misfit, 3)]
     return wrong
+
+
+def no_lists_at_all():
+    """Values that are no list of any number of kinds, or one of too many."""
+    return objects_but(()) + [
+        [0, 1], (0, 0), (1, 2), (0, -1), (True, 0), (0, True), (False,), ("0",), (0, None), ((0,),), {0: 0}, range(1),
+        tuple(range(61)), tuple(range(62)), (0,) * 61,
+    ]
+
+
+def wrong_own_lists():
+    """Values that are no lists of as many kinds as the first one has."""
+    right = (0, 1)
+    whole = OBJECTS + [[right, right], (right,), (right, right, right), {0: right, 1: right}]
+    wrong = [(value, InvalidLists, -1) for value in whole]
+    for value in no_lists_at_all():
+        wrong += [((value, other), InvalidLists, 0) for other in (right, value, None)]
+    wrong += [((right, value), InvalidLists, 1) for value in no_lists()]
+    pairs = [((), (0,)), ((0,), ()), ((0,), right), (tuple(range(60)), tuple(range(61))), (tuple(range(60)), (0,) * 60)]
+    return wrong + [(pair, InvalidLists, 1) for pair in pairs]
+
+
+def wrong_own_ranking():
+    """Values that are no list of any number of kinds, where one list is asked for."""
+    return [(value, InvalidList, value) for value in no_lists_at_all()]
+
+
+def no_bundles():
+    """Values that are no bundle of two kinds."""
+    shapes = OBJECTS + [[1, 0], (1,), (1, 0, 0), ((1, 0),), "10", {0: 1, 1: 0}, range(2), (-1, 2), (2, -1)]
+    entries = objects_but(0, 10 ** 5000)
+    return shapes + [(0, value) for value in entries] + [(value, 0) for value in entries]
+
+
+def wrong_sharing():
+    """Values that are no sharing of items of two kinds."""
+    right = (1, 2)
+    whole = OBJECTS + [[right, right], (right,), (right, right, right), {0: right, 1: right}]
+    wrong = [(value, InvalidSharing, -1) for value in whole]
+    for value in no_bundles():
+        wrong += [((value, right), InvalidSharing, 0), ((right, value), InvalidSharing, 1)]
+        wrong += [((value, value), InvalidSharing, 0)]
+    return wrong
+
+
+def wrong_compared(index):
+    """Values that are no bundle of two kinds, where two are compared."""
+    return [(value, InvalidBundle, index) for value in no_bundles()]
+
+
+def wrong_part():
+    """Values that are no bundle of items of which there are two of kind 0 and one of kind 1."""
+    wrong = [(value, InvalidBundle, -1) for value in no_bundles()] + [((-1, 9), InvalidBundle, -1)]
+    wrong += [(value, InvalidBundle, 0) for value in [(3, 0), (3, 2), (10 ** 5000, 0), (3, 10 ** 5000)]]
+    return wrong + [(value, InvalidBundle, 1) for value in [(0, 2), (2, 2), (0, 10 ** 5000)]]
+
+
+def wrong_opponent():
+    """Values that are no opponent."""
+    values = ["plai", "plainly", "Plain", "HOSTILE", "thinking ", b"plain", ("plain",), ["hostile"], {"plain"}]
+    return [(value, InvalidOpponent, value) for value in OBJECTS + values]
+
+
+def wrong_picks():
+    """Values that are no picks if there are 200 items of kind 0 and 100 of kind 1, and the sequence has 4 picks."""
+    whole = objects_but([], [1], (), (1,)) + [{0}, {0: 1}, "01", range(2), iter([0])]
+    whole += [[0] * 201, (0,) * 300, [None] * 201]
+    wrong = [(value, InvalidPicks, -1) for value in whole]
+    for value in objects_but(0) + [2, -2, "0", (0,), [0], {0}]:
+        wrong += [([value], InvalidPicks, 0), ((1, value, 0, value), InvalidPicks, 1)]
+        wrong += [([0, 1, 0, value], InvalidPicks, 3)]
+    return wrong
+
+
+def wrong_both_values():
+    """Values that are no values of two players with the lists (0, 1) and (1, 0)."""
+    one = (5, 3)
+    other = (1, 2)
+    whole = OBJECTS + [[one, other], (one,), (one, other, other), {0: one, 1: other}]
+    wrong = [(value, InvalidValues, -1) for value in whole]
+    falling = [(5, 5), (0, 0), (-1, -2), (5, -1)] + [(value, 0) for value in objects_but(0, 10 ** 5000)]
+    falling += [(5, value) for value in objects_but(0, 10 ** 5000)]
+    for value in OBJECTS + [[5, 3], (5,), (5, 3, 1), ((5, 3),), "53", {0: 5, 1: 3}] + falling:
+        wrong += [((value, other), InvalidValues, 0), ((value, value), InvalidValues, 0)]
+    for value in OBJECTS + [[1, 2], (2,), (0, 1, 2), ((1, 2),), "12", {0: 1, 1: 2}] + [pair[::-1] for pair in falling]:
+        wrong += [((one, value), InvalidValues, 1)]
+    wrong += [(one, InvalidValues, 0), ((other, one), InvalidValues, 0), (((0, 1), other), InvalidValues, 0)]
+    return wrong + [((one, (2, 1)), InvalidValues, 1), ((one, one), InvalidValues, 1)]

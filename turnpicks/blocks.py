@@ -4,6 +4,8 @@ A part is a pair (steps, times): a string or a list that is not empty, and how o
 A block is such a part.
 """
 
+from itertools import accumulate
+
 
 def steps_in(parts):
     """Returns the number of steps of all parts together."""
@@ -93,6 +95,23 @@ class Walk:
             inside = many % len(self.steps)
             self.steps = self.steps[inside:] + self.steps[:inside]
 
+    def skip(self, many):
+        """Goes on by `many` steps, or to the end."""
+        ahead = many
+        while ahead > 0 and self.room > 0:
+            steps = min(ahead, self.room)
+            self.move(steps)
+            ahead -= steps
+
+    def read(self, many):
+        """Goes on by `many` steps, which are those of strings, or to the end, and returns them."""
+        text = ""
+        while len(text) < many and self.room > 0:
+            steps = min(many - len(text), self.room)
+            text += (self.steps * (steps // len(self.steps) + 1))[:steps]
+            self.move(steps)
+        return text
+
 
 def first_unlike(one, other, many):
     """Returns the index of the first of `many` steps in which two repeated texts differ, or None."""
@@ -123,3 +142,61 @@ def first_parting(one, other):
     if here.room == there.room:
         return None
     return passed + 1
+
+
+def turns_behind(sequence, places, many):
+    """Returns, for each of these numbers of picks, a string of the next turns behind them, at most so many.
+
+    The numbers of picks do not fall.
+    """
+    walk = Walk(sequence)
+    found = []
+    text = ""
+    start = 0
+    passed = 0
+    for place in places:
+        # The text has the turns from behind `start` to `passed`, so it is begun anew where they end too early.
+        if place > passed:
+            walk.skip(place - passed)
+            text = ""
+            start = place
+            passed = place
+        text += walk.read(place + many - passed)
+        passed = place + many
+        found.append(text[place - start:passed - start])
+    return found
+
+
+class Turns:
+    """The turns of a sequence, in which the next one of a player is found without going through those ahead of it."""
+
+    def __init__(self, sequence):
+        self.blocks = sequence
+        self.starts = [0] + list(accumulate([len(turns) * times for turns, times in sequence]))
+
+    def first_behind(self, player, passed):
+        """Returns the number of the player's first turn behind so many picks, or one more than all picks."""
+        index = self.block_behind(passed)
+        inside = passed - self.starts[index]
+        while index < len(self.blocks):
+            turns, times = self.blocks[index]
+            part = inside % len(turns)
+            place = (turns + turns).find(player, part)
+            number = inside - part + place + 1
+            if place >= 0 and number <= len(turns) * times:
+                return self.starts[index] + number
+            index += 1
+            inside = 0
+        return self.starts[-1] + 1
+
+    def block_behind(self, passed):
+        """Returns the index of the block that has the first pick behind so many picks, or of the last block."""
+        low = 0
+        high = len(self.blocks)
+        while low + 1 < high:
+            middle = (low + high) // 2
+            if self.starts[middle] <= passed:
+                low = middle
+            else:
+                high = middle
+        return low

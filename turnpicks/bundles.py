@@ -120,18 +120,27 @@ def first_over(room):
 
 def greedy_bundle(counts, ranking, limits, order):
     """Returns the bundle with as many items of each kind as the caps allow, one kind of the order after the other."""
-    places = {kind: place for place, kind in enumerate(ranking)}
+    places = {kind: place for place, kind in enumerate(ranking, start=1)}
     # The turns between the caps of two prefixes come too late for the kinds of the first one. Each kind
     # gets the latest turns that are early enough for it, so that the others lose as little as can be.
-    free = [limit - before for limit, before in zip(limits, [0] + limits)]
+    free = [0] + [limit - before for limit, before in zip(limits, [0] + limits)]
+    # A place without free turns leads down to a lower one. The way is made shorter each time it is gone.
+    lower = list(range(len(free)))
     bundle = [0] * len(counts)
     for kind in order:
+        wanted = counts[kind]
         place = places[kind]
-        while bundle[kind] < counts[kind] and place >= 0:
-            many = min(counts[kind] - bundle[kind], free[place])
-            free[place] -= many
-            bundle[kind] += many
-            place -= 1
+        while wanted > 0 and place > 0:
+            if lower[place] < place:
+                lower[place] = lower[lower[place]]
+                place = lower[place]
+            elif free[place] > wanted:
+                free[place] -= wanted
+                wanted = 0
+            else:
+                wanted -= free[place]
+                lower[place] = place - 1
+        bundle[kind] = counts[kind] - wanted
     return tuple(bundle)
 
 

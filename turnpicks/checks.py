@@ -2,13 +2,16 @@
 
 from turnpicks.blocks import steps_in
 from turnpicks.errors import InvalidBundle, InvalidCounts, InvalidCourse, InvalidKind, InvalidList, InvalidLists
-from turnpicks.errors import InvalidNumber, InvalidPlayer, InvalidSequence, InvalidValues, Mismatch
+from turnpicks.errors import InvalidNumber, InvalidOpponent, InvalidPicks, InvalidPlayer, InvalidSequence
+from turnpicks.errors import InvalidSharing, InvalidValues, Mismatch
 
 PLAYERS = ("A", "B")
+OPPONENTS = ("plain", "hostile", "thinking")
 MOST_KINDS = 60
 MOST_BLOCKS = 200
 MOST_LETTERS = 20
 MOST_ROWS = 1000
+MOST_PICKS = 200
 
 
 def is_integer(value):
@@ -47,6 +50,11 @@ def is_list(value, kinds):
     if not isinstance(value, tuple) or not are_kinds(value, kinds):
         return False
     return sorted(value) == list(range(kinds))
+
+
+def kinds_in(value):
+    """Returns how many kinds the value ranks if it is a list, however many these are."""
+    return min(len(value), MOST_KINDS) if isinstance(value, tuple) else 0
 
 
 def is_player(value):
@@ -91,6 +99,11 @@ def check_lists(lists, kinds):
             raise InvalidLists(index)
 
 
+def check_own_lists(lists):
+    """Raises InvalidLists if these are not lists of as many kinds as the first one has."""
+    check_lists(lists, kinds_in(lists[0]) if isinstance(lists, tuple) and len(lists) == 2 else 0)
+
+
 def check_ranking(ranking, kinds):
     """Raises InvalidList if this is not a list of so many kinds."""
     if not is_list(ranking, kinds):
@@ -112,6 +125,12 @@ def check_player(player):
         raise InvalidPlayer(player)
 
 
+def check_opponent(opponent):
+    """Raises InvalidOpponent if this is not an opponent."""
+    if not isinstance(opponent, str) or opponent not in OPPONENTS:
+        raise InvalidOpponent(opponent)
+
+
 def check_kind(kind, kinds):
     """Raises InvalidKind if this is not one of so many kinds."""
     if not is_kind(kind, kinds):
@@ -125,6 +144,17 @@ def check_course(course, kinds):
     for index, row in enumerate(course):
         if not is_row(row, kinds):
             raise InvalidCourse(index)
+
+
+def check_picks(picks, counts, most):
+    """Raises InvalidPicks if these are not at most so many picks of these items."""
+    if not isinstance(picks, (list, tuple)) or len(picks) > min(MOST_PICKS, most):
+        raise InvalidPicks(-1)
+    left = list(counts)
+    for index, kind in enumerate(picks):
+        if not is_kind(kind, len(counts)) or left[kind] == 0:
+            raise InvalidPicks(index)
+        left[kind] -= 1
 
 
 def check_number(number, name, least):
@@ -161,16 +191,29 @@ def check_side(counts, ranking, sequence, player):
     check_player(player)
 
 
-def bundle_fault(bundle, counts, many):
-    """Returns the index of InvalidBundle for what should be a bundle of so many of these items, or None."""
+def part_fault(bundle, counts):
+    """Returns the index of InvalidBundle for what should be a bundle of these items, or None."""
     if not is_bundle(bundle, len(counts)):
         return -1
     for kind, there in enumerate(counts):
         if bundle[kind] > there:
             return kind
-    if sum(bundle) != many:
-        return len(counts)
     return None
+
+
+def check_part(bundle, counts):
+    """Raises InvalidBundle if this is not a bundle of these items."""
+    fault = part_fault(bundle, counts)
+    if fault is not None:
+        raise InvalidBundle(fault)
+
+
+def bundle_fault(bundle, counts, many):
+    """Returns the index of InvalidBundle for what should be a bundle of so many of these items, or None."""
+    fault = part_fault(bundle, counts)
+    if fault is None and sum(bundle) != many:
+        return len(counts)
+    return fault
 
 
 def check_bundle(bundle, counts, many):
@@ -178,6 +221,15 @@ def check_bundle(bundle, counts, many):
     fault = bundle_fault(bundle, counts, many)
     if fault is not None:
         raise InvalidBundle(fault)
+
+
+def check_sharing(sharing, kinds):
+    """Raises InvalidSharing if this is not a pair of bundles of so many kinds."""
+    if not isinstance(sharing, tuple) or len(sharing) != 2:
+        raise InvalidSharing(-1)
+    for index, bundle in enumerate(sharing):
+        if not is_bundle(bundle, kinds):
+            raise InvalidSharing(index)
 
 
 def integers_fault(values, many):
@@ -202,3 +254,19 @@ def check_values(values, kinds):
     fault = integers_fault(values, kinds)
     if fault is not None:
         raise InvalidValues(fault)
+
+
+def is_falling(values, ranking):
+    """Returns whether the values are integers >= 0 for the kinds of a list that fall along it."""
+    if not is_bundle(values, len(ranking)):
+        return False
+    return all([values[kind] > values[behind] for kind, behind in zip(ranking, ranking[1:])])
+
+
+def check_both_values(values, lists):
+    """Raises InvalidValues if these are not values of both players that fall along their lists."""
+    if not isinstance(values, tuple) or len(values) != 2:
+        raise InvalidValues(-1)
+    for index, ranking in enumerate(lists):
+        if not is_falling(values[index], ranking):
+            raise InvalidValues(index)

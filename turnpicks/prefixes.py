@@ -1,8 +1,16 @@
-"""The prefixes of a list: how many items they have, and how many turns a player has while these last."""
+"""The places and prefixes of a list: how many items these have, and how many turns a player has while they last."""
 
 from itertools import accumulate
 
 from turnpicks.blocks import turns_by
+
+
+def places_in(ranking):
+    """Returns the place of each kind in a list, from 0."""
+    places = [0] * len(ranking)
+    for place, kind in enumerate(ranking):
+        places[kind] = place
+    return places
 
 
 def prefix_items(bundle, ranking):
